@@ -8,12 +8,17 @@ SCRIPT_END = "</script>"
 WRITTEN_SIGNS = (("&lt;", "<"), ("&gt;", ">"), ("&quot;", '"'), ("&amp;", "&"))
 
 
+def run_at(text, at, signs):
+    """All that stands from a place on until a sign comes that is none of these."""
+    behind = at
+    while behind < len(text) and text[behind] in signs:
+        behind += 1
+    return text[at:behind]
+
+
 def word_at(text, at):
     """All signs from a place on that a word may have, where they are a word, else no signs."""
-    behind = at
-    while behind < len(text) and text[behind] in WORD_SIGNS:
-        behind += 1
-    word = text[at:behind]
+    word = run_at(text, at, WORD_SIGNS)
     if len(word) > MOST_WORD_SIGNS or word.startswith("-"):
         return ""
     return word

@@ -11,6 +11,17 @@ FUNCTIONS = {
     "freshpage.words": {"is_word": ["text"], "written_sign": ["text"], "plain_signs": ["text"]},
     "freshpage.reader": {"read": ["text"], "stretches": ["text"]},
     "freshpage.writer": {"written": ["tree"], "is_whole": ["tree"]},
+    "freshpage.trees": {"nodes_of": ["tree"], "parents_of": ["tree"], "put_worth": ["tree", "node", "name", "value"],
+                        "drop_worth": ["tree", "node", "name"], "put": ["tree", "node", "at", "text"],
+                        "cut": ["tree", "node"], "set_text": ["tree", "node", "text"]},
+    "freshpage.looks": {"rules_of": ["looks"], "own_rules": ["text"]},
+    "freshpage.selectors": {"matches": ["selector", "tree", "node"], "weight": ["selector"]},
+    "freshpage.styles": {"styles": ["tree", "looks"], "style_lead": ["tree", "looks", "node", "name"]},
+}
+VALUES = {
+    "freshpage.trees": {"MOST_NODES": 120, "MOST_DEEP": 20},
+    "freshpage.styles": {"PROPERTIES": ("align", "back", "border", "color", "display", "down", "hide", "layer", "margin",
+                                        "pad", "right", "width")},
 }
 
 
@@ -23,6 +34,15 @@ class Interface(unittest.TestCase):
                 self.assertEqual(function.__module__, file)
                 self.assertTrue(inspect.isfunction(function))
                 self.assertEqual(list(inspect.signature(function).parameters), parameters)
+
+    def test_values(self):
+        for file, values in VALUES.items():
+            code = ast.parse((FOLDER.parent / f"{file.replace('.', '/')}.py").read_text(encoding="utf-8"))
+            assigned = [node.targets[0].id for node in code.body if isinstance(node, ast.Assign)]
+            for name, value in values.items():
+                kept = getattr(importlib.import_module(file), name)
+                self.assertEqual((type(kept), kept), (type(value), value))
+                self.assertIn(name, assigned, file)
 
     def test_too_large(self):
         module = importlib.import_module("freshpage.errors")
