@@ -1,37 +1,76 @@
-"""Where the nodes of a tree stand, as looks ask for it."""
+"""Where the nodes of a tree stand, as looks and layout ask for it."""
 
-from freshpage.trees import nodes_of, parents_of
+from freshpage.kept import kept_answer, kept_with
+
+PLACES = None
 
 
 class Place:
-    """A node's parent's number; of a tag its name and worths, and whether it is the first tag of its parent."""
+    """Where a node stands: of a text its signs, of a tag its name and worths, and whether no tag beside is ahead."""
 
-    def __init__(self, parent, name, worths, first):
+    def __init__(self, parent, node, first):
+        self.number = 0
         self.parent = parent
-        self.name = name
-        self.worths = worths
+        self.deep = 1 if parent is None else parent.deep + 1
+        self.name = None
+        self.signs = ""
+        self.worths = {}
         self.first = first
+        self.has_tag = False
+        # What is worked out of it is set by those who do so.
+        self.own = None
+        self.met = 0
+        self.met_around = 0
+        self.style = None
+        self.block = None
+        self.was_styled = False
+        self.was_set_out = False
+        if node[0] == "text":
+            self.signs = node[1]
+        else:
+            self.name = node[1]
+            self.worths = dict(node[2])
 
 
 def places_of(tree):
-    """The places of all nodes, by their numbers; a text has None as its name."""
-    places = {}
-    begun = set()
-    for node, parent in zip(nodes_of(tree), parents_of(tree)):
-        if node[0] == "text":
-            place = Place(parent, None, {}, False)
-        else:
-            # A parent's tags come in their order: the first one finds it not begun.
-            place = Place(parent, node[1], dict(node[2]), parent not in begun)
-            begun.add(parent)
-        places[len(places)] = place
+    """The places of all nodes, by their numbers."""
+    return numbered(places_from(None, tree, True))
+
+
+def places_from(parent, node, first):
+    """The places of a node below that of a parent, and of all within it, in their order, still without numbers."""
+    places = [Place(parent, node, first)]
+    coming = [(places[0], child) for child in children_behind_first(node)]
+    # Not by a function that calls itself: a tree may be deep.
+    while coming:
+        parent, node = coming.pop()
+        is_tag = node[0] == "tag"
+        place = Place(parent, node, is_tag and not parent.has_tag)
+        places.append(place)
+        if is_tag:
+            parent.has_tag = True
+            coming.extend([(place, child) for child in node[3][::-1]])
     return places
 
 
-def path_of(places, number):
-    """Of the places only a node's own and those of the tags around it, by their numbers, the page's first."""
-    path = []
-    while number is not None:
-        path.append(number)
-        number = places[number].parent
-    return {step: places[step] for step in path[::-1]}
+def children_behind_first(node):
+    """The children of a node, the last one first."""
+    return node[3][::-1] if node[0] == "tag" else ()
+
+
+def numbered(places):
+    """The places, each with its number."""
+    for number, place in enumerate(places):
+        place.number = number
+    return places
+
+
+def kept_places(tree):
+    """The places of all nodes, which are only read, as others are told the same ones."""
+    global PLACES
+    rows = PLACES or ()
+    places = kept_answer(rows, tree)
+    if places is None:
+        places = places_of(tree)
+        PLACES = kept_with(rows, tree, places)
+    return places

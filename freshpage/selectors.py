@@ -1,7 +1,7 @@
 """Selectors of looks: how they are read, which tags they match, and their weight."""
 
 from freshpage.figures import FIGURES
-from freshpage.places import path_of, places_of
+from freshpage.places import kept_places
 from freshpage.words import WORD_SIGNS, run_at, word_at
 
 MOST_COMPOUNDS = 4
@@ -11,41 +11,48 @@ FIRST = ":first"
 
 def matches(selector, tree, node):
     """Whether a selector so written matches the node of a number."""
-    places = path_of(places_of(tree), node)
-    return node in matched(compounds_of(selector), places)
+    places = kept_places(tree)
+    if node < 0 or node >= len(places):
+        return False
+    compounds = compounds_of(selector, {})
+    return is_led_to(compounds, len(compounds) - 1, places[node])
 
 
 def weight(selector):
     """The weight of a selector so written."""
-    compounds = compounds_of(selector)
+    return weight_of(compounds_of(selector, {}))
+
+
+def weight_of(compounds):
+    """The weight of a selector of these compounds."""
     signs = [sign for _, _, tests in compounds for sign, _, _ in tests]
     names = [name for _, name, _ in compounds if name != ""]
     return (signs.count("#"), len(signs) - signs.count("#"), len(names))
 
 
-def matched(compounds, places):
-    """The numbers, as the keys of a dict, of the places whose tags these compounds match."""
-    found = places
-    for at, (is_child, name, tests) in enumerate(compounds):
-        led = places if at == 0 else led_by(found, is_child, places)
-        found = {number: True for number in led if is_fit(places[number], name, tests)}
-    return found
-
-
-def led_by(found, is_child, places):
-    """The numbers, as keys, of the nodes whose parent was found, or, if no child is asked for, a tag around it."""
-    led = {}
-    for number, place in places.items():
-        if place.parent in found or (not is_child and place.parent in led):
-            led[number] = True
-    return led
+def is_led_to(compounds, at, place):
+    """Whether the compound of a number matches the tag at a place, and those ahead of it tags around."""
+    is_child, name, tests = compounds[at]
+    if not is_fit(place, name, tests):
+        return False
+    if at == 0:
+        return True
+    around = place.parent
+    while around is not None:
+        if is_led_to(compounds, at - 1, around):
+            return True
+        around = None if is_child else around.parent
+    return False
 
 
 def is_fit(place, name, tests):
     """Whether the node at a place is a tag of that name, if one is asked for, that passes the tests."""
     if place.name is None or name not in ("", place.name):
         return False
-    return all([passes(place, test) for test in tests])
+    for test in tests:
+        if not passes(place, test):
+            return False
+    return True
 
 
 def passes(place, test):
@@ -59,29 +66,35 @@ def passes(place, test):
     return value in worth.split(" ") if sign == "." else value == worth
 
 
-def compounds_of(selector):
-    """The compounds, a list of (whether a child is asked for, name, tests); None where it is not so written."""
+def compounds_of(selector, known):
+    """The compounds, a list of (whether a child is asked for, name, tests); None where it is not so written.
+
+    What is known of compounds, as they are written, is kept for the selectors to come.
+    """
     compounds = []
     for part in selector.split(" > "):
         for at, signs in enumerate(part.split(" ")):
-            tests = tests_of(signs)
-            if tests is None or len(compounds) == MOST_COMPOUNDS:
+            if signs not in known:
+                known[signs] = compound_of(signs)
+            if known[signs] is None or len(compounds) == MOST_COMPOUNDS:
                 return None
-            compounds.append((at == 0, word_at(signs, 0), tests))
+            compounds.append((at == 0, *known[signs]))
     return compounds
 
 
-def tests_of(signs):
-    """The tests of a compound, a list of (sign, worth's name, value); None where it is not so written."""
+def compound_of(signs):
+    """The name, if one is asked for, and the tests, each (sign, worth's name, value); None where it is not so written.
+    """
+    name = word_at(signs, 0)
     tests = []
-    at = 1 if signs.startswith("*") else len(word_at(signs, 0))
+    at = 1 if signs.startswith("*") else len(name)
     while at < len(signs):
         found = test_at(signs, at)
         if found is None:
             return None
         test, at = found
         tests.append(test)
-    return None if signs == "" else tests
+    return None if signs == "" else (name, tests)
 
 
 def test_at(signs, at):

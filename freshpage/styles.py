@@ -1,88 +1,109 @@
 """The style of each node, and what gave it."""
 
 from freshpage.errors import NoNode, NoProperty
-from freshpage.looks import own_rules, rules_of
-from freshpage.places import path_of, places_of
+from freshpage.kept import kept_answer, kept_with
+from freshpage.places import places_of
 from freshpage.properties import HANDED_DOWN, plain_value
-from freshpage.selectors import compounds_of, matched, weight
+from freshpage.sheets import sheet_of
 
 PROPERTIES = (
     "align", "back", "border", "color", "display", "down", "hide", "layer", "margin", "pad", "right", "width",
 )
-NO_WEIGHT = (0, 0, 0)
+STYLED = None
 
 
 def styles(tree, looks):
     """The styles by the nodes' numbers: each the tuple of the values, in the order of the properties."""
-    worked = worked_out(places_of(tree), looks)
-    return [tuple([style[name][0] for name in PROPERTIES]) for style in worked.values()]
+    places = kept_for_styles(tree, looks)
+    style_places(places, sheet_of(looks))
+    return [place.style for place in places]
 
 
 def style_lead(tree, looks, node, name):
     """What gave a node its value of a property."""
-    places = places_of(tree)
-    if node not in places:
+    places = kept_for_styles(tree, looks)
+    if node < 0 or node >= len(places):
         raise NoNode("no node has this number")
     if name not in PROPERTIES:
         raise NoProperty("no property has this name")
-    # A style hangs on the nodes around alone.
-    worked = worked_out(path_of(places, node), looks)
-    return worked[node][name][1]
+    return lead_of(places[node], name, sheet_of(looks))
 
 
-def worked_out(places, looks):
-    """By the numbers of the places, and by the properties: (value, lead)."""
-    greatest = greatest_of(places, looks)
-    worked = {}
-    for number, place in places.items():
-        above = worked.get(place.parent)
-        if place.name is None:
-            worked[number] = {name: (above[name][0], ("parent", place.parent)) for name in PROPERTIES}
+def value_of(style, name):
+    """The value of a property in a style."""
+    return style[PROPERTIES.index(name)]
+
+
+def kept_for_styles(tree, looks):
+    """The places of all nodes of a tree, with what was worked out of these looks so far."""
+    global STYLED
+    rows = STYLED or ()
+    places = kept_answer(rows, (tree, looks))
+    if places is None:
+        places = places_of(tree)
+        STYLED = kept_with(rows, (tree, looks), places)
+    return places
+
+
+def style_places(places, sheet):
+    """Works out the style of each place that has none; those of a parent come ahead of its children's."""
+    for place in places:
+        if place.style is None:
+            meet(place, sheet)
+            place.style = style_of(place, sheet)
+            place.was_styled = True
+
+
+def meet(place, sheet):
+    """Works out which compounds match a tag with those ahead of them around it, and its own look."""
+    if place.own is not None or place.name is None:
+        return
+    reach = sheet.begins
+    around = 0
+    if place.parent is not None:
+        meet(place.parent, sheet)
+        around = place.parent.met_around
+        reach |= (place.parent.met << 1) & sheet.of_parent | (around << 1) & sheet.of_around
+    place.met = reach & sheet.fit_of(place)
+    place.met_around = around | place.met
+    place.own = sheet.own_told(place)
+
+
+def style_of(place, sheet):
+    """The tuple of the values of a node, behind that of its parent."""
+    if place.name is None:
+        return place.parent.style
+    above = None if place.parent is None else place.parent.style
+    style = []
+    for at, name in enumerate(PROPERTIES):
+        plain = plain_value(name, place.name)
+        handed = plain if above is None else above[at]
+        found = greatest_of(place, name, sheet)
+        if found is None:
+            style.append(handed if name in HANDED_DOWN else plain)
         else:
-            worked[number] = {name: given(name, place, greatest[number], above) for name in PROPERTIES}
-    return worked
+            style.append(handed if found[0] == "inherit" else found[0])
+    return tuple(style)
 
 
-def given(name, place, greatest, above):
-    """The (value, lead) of a property of a tag, above those of its parent, None of the page."""
-    plain = plain_value(name, place.name)
-    handed = plain if above is None else above[name][0]
-    if name in greatest:
-        _, value, lead = greatest[name]
-        return (handed if value == "inherit" else value), lead
-    if above is None or name not in HANDED_DOWN:
-        return plain, ("plain",)
-    return handed, ("parent", place.parent)
+def greatest_of(place, name, sheet):
+    """(value, lead) of the greatest declaration of a property for a tag, or None."""
+    for strong in (True, False):
+        own = place.own.get((name, strong))
+        row = sheet.told(place.met, name, strong)
+        if own is not None or row is not None:
+            return row if own is None else own
+    return None
 
 
-def greatest_of(places, looks):
-    """By the numbers of the places, and by the properties that have one, the greatest declaration."""
-    greatest = {number: {} for number in places}
-    for k, rule in enumerate(rules_of(looks)):
-        if rule is not None:
-            selectors, declarations = rule
-            for number, heavy in weights_of(selectors, places).items():
-                offer(greatest[number], declarations, (False, heavy, k), ("row", k))
-    for number, place in places.items():
-        offer(greatest[number], own_rules(place.worths.get("look", "")), (True, NO_WEIGHT, 0), ("own",))
-    return greatest
-
-
-def weights_of(selectors, places):
-    """By the numbers of the places that a row's selectors match, the weight of the heaviest that does."""
-    weights = {}
-    for selector in selectors:
-        heavy = weight(selector)
-        for number in matched(compounds_of(selector), places):
-            weights[number] = max(heavy, weights.get(number, NO_WEIGHT))
-    return weights
-
-
-def offer(greatest, declarations, rank, lead):
-    """Keeps of each property the greatest declaration: (rank, value, lead)."""
-    for d, declaration in enumerate(declarations):
-        if declaration is not None:
-            name, value, strong = declaration
-            place = (strong, *rank, d)
-            if name not in greatest or greatest[name][0] < place:
-                greatest[name] = (place, value, (*lead, d))
+def lead_of(place, name, sheet):
+    """What gave a node its value of a property."""
+    if place.name is None:
+        return ("parent", place.parent.number)
+    meet(place, sheet)
+    found = greatest_of(place, name, sheet)
+    if found is not None:
+        return found[1]
+    if place.parent is not None and name in HANDED_DOWN:
+        return ("parent", place.parent.number)
+    return ("plain",)

@@ -18,19 +18,23 @@ def nodes_of(tree):
     while coming:
         node = coming.pop()
         nodes.append(node)
-        coming.extend(children_of(node)[::-1])
+        if node[0] == "tag":
+            coming.extend(node[3][::-1])
     return nodes
 
 
 def parents_of(tree):
     """The number of each node's parent, by the nodes' numbers, None for the page."""
     parents = []
-    coming = [(None, tree)]
+    coming = [tree]
+    around = [None]
     while coming:
-        parent, node = coming.pop()
+        node = coming.pop()
         number = len(parents)
-        parents.append(parent)
-        coming.extend([(number, child) for child in children_of(node)[::-1]])
+        parents.append(around.pop())
+        if node[0] == "tag":
+            coming.extend(node[3][::-1])
+            around.extend([number] * len(node[3]))
     return parents
 
 
@@ -41,66 +45,70 @@ def children_of(node):
 
 def put_worth(tree, node, name, value):
     """The tree with a worth put at a tag: in its place, or behind the others."""
-    tag = tag_of_worth(tree, node, name)
+    nodes = nodes_of(tree)
+    tag = tag_of_worth(nodes, node, name)
     worths = dict(tag[2])
     worths[name] = value
-    return bounded(replaced(tree, node, [with_worths(tag, tuple(worths.items()))]))
+    return bounded(replaced(nodes, node, [with_worths(tag, tuple(worths.items()))]))
 
 
 def drop_worth(tree, node, name):
     """The tree with a worth dropped at a tag, if it is there."""
-    tag = tag_of_worth(tree, node, name)
+    nodes = nodes_of(tree)
+    tag = tag_of_worth(nodes, node, name)
     worths = tuple([worth for worth in tag[2] if worth[0] != name])
-    return bounded(replaced(tree, node, [with_worths(tag, worths)]))
+    return bounded(replaced(nodes, node, [with_worths(tag, worths)]))
 
 
 def put(tree, node, at, text):
     """The tree with what a text is read to put in at a tag, ahead of its child of a number or behind all."""
-    tag = tag_at(tree, node)
+    nodes = nodes_of(tree)
+    tag = tag_at(nodes, node)
     if tag[1] == "script":
         raise NotTag("nothing is put in at a script")
     children = tag[3]
     if at < 0 or at > len(children):
         raise NoNode("no child has this number")
     children = children[:at] + read(text)[3] + children[at:]
-    return bounded(replaced(tree, node, [with_children(tag, children)]))
+    return bounded(replaced(nodes, node, [with_children(tag, children)]))
 
 
 def cut(tree, node):
     """The tree without a node and what is within it."""
-    node_at(tree, node)
+    nodes = nodes_of(tree)
+    node_at(nodes, node)
     if node == 0:
         raise NotTag("the page is not cut")
-    return bounded(replaced(tree, node, []))
+    return bounded(replaced(nodes, node, []))
 
 
 def set_text(tree, node, text):
     """The tree with a text in the place of all children of a tag."""
-    tag = tag_at(tree, node)
+    nodes = nodes_of(tree)
+    tag = tag_at(nodes, node)
     if tag[1] == "script" and SCRIPT_END in text:
         raise NotFormed("the text would end the script")
-    return bounded(replaced(tree, node, [with_children(tag, (("text", text),))]))
+    return bounded(replaced(nodes, node, [with_children(tag, (("text", text),))]))
 
 
-def node_at(tree, number):
+def node_at(nodes, number):
     """The node of a number."""
-    nodes = nodes_of(tree)
     if number < 0 or number >= len(nodes):
         raise NoNode("no node has this number")
     return nodes[number]
 
 
-def tag_at(tree, number):
+def tag_at(nodes, number):
     """The node of a number, where it is a tag."""
-    node = node_at(tree, number)
+    node = node_at(nodes, number)
     if node[0] != "tag":
         raise NotTag("a text is no tag")
     return node
 
 
-def tag_of_worth(tree, number, name):
+def tag_of_worth(nodes, number, name):
     """The tag of a number, where a worth of that name may be put or dropped."""
-    tag = tag_at(tree, number)
+    tag = tag_at(nodes, number)
     if number == 0:
         raise NotTag("the page has no worths")
     if not is_word(name):
@@ -124,10 +132,9 @@ def with_children(tag, children):
     return ("tag", tag[1], tag[2], tuple(kept))
 
 
-def replaced(tree, number, others):
-    """The tree with other nodes (of the page: one) where the one of a number stood."""
-    nodes = nodes_of(tree)
-    parents = parents_of(tree)
+def replaced(nodes, number, others):
+    """The tree of these nodes with others (of the page: one) where the one of a number stood."""
+    parents = parents_of(nodes[0])
     while parents[number] is not None:
         parent = parents[number]
         # As many children stand ahead of it as nodes with smaller numbers have its parent.
@@ -141,18 +148,18 @@ def replaced(tree, number, others):
 
 def bounded(tree):
     """The tree, where it is not too large."""
-    if len(nodes_of(tree)) > MOST_NODES:
-        raise TooLarge(MOST_NODES)
-    if deep_of(tree) > MOST_DEEP:
-        raise TooLarge(MOST_DEEP)
+    check_sizes(tree)
     if len(written(tree)) > MOST_SIGNS:
         raise TooLarge(MOST_SIGNS)
     return tree
 
 
-def deep_of(tree):
-    """How deep the deepest node stands, the page one deep."""
+def check_sizes(tree):
+    """Refuses a tree of too many nodes, or one that is too deep."""
     deeps = []
     for parent in parents_of(tree):
         deeps.append(1 if parent is None else deeps[parent] + 1)
-    return max(deeps)
+    if len(deeps) > MOST_NODES:
+        raise TooLarge(MOST_NODES)
+    if max(deeps) > MOST_DEEP:
+        raise TooLarge(MOST_DEEP)

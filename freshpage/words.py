@@ -10,15 +10,14 @@ WRITTEN_SIGNS = (("&lt;", "<"), ("&gt;", ">"), ("&quot;", '"'), ("&amp;", "&"))
 
 def run_at(text, at, signs):
     """All that stands from a place on until a sign comes that is none of these."""
-    behind = at
-    while behind < len(text) and text[behind] in signs:
-        behind += 1
-    return text[at:behind]
+    rest = text[at:]
+    return rest[:len(rest) - len(rest.lstrip(signs))]
 
 
 def word_at(text, at):
     """All signs from a place on that a word may have, where they are a word, else no signs."""
-    word = run_at(text, at, WORD_SIGNS)
+    # One sign more than a word has tells that these are too many.
+    word = run_at(text[at:at + MOST_WORD_SIGNS + 1], 0, WORD_SIGNS)
     if len(word) > MOST_WORD_SIGNS or word.startswith("-"):
         return ""
     return word

@@ -12,20 +12,15 @@ def written(tree):
         part = coming.pop()
         if isinstance(part, str):
             pieces.append(part)
+        elif part[0] == "text":
+            pieces.append(written_sign(part[1]))
         else:
-            coming.extend(parts_of(part)[::-1])
+            _, name, worths, children = part
+            ahead = "".join([written_worth(key, value) for key, value in worths])
+            pieces.append(f"<{name}{ahead}>")
+            coming.append(f"</{name}>")
+            coming.extend([signs for _, signs in children] if name == "script" else children[::-1])
     return "".join(pieces)
-
-
-def parts_of(node):
-    """What a node is written of, in its order: texts as they come, and nodes still to be written."""
-    if node[0] == "text":
-        return [written_sign(node[1])]
-    _, name, worths, children = node
-    if name == "script":
-        children = [signs for _, signs in children]
-    ahead = "".join([written_worth(key, value) for key, value in worths])
-    return [f"<{name}{ahead}>", *children, f"</{name}>"]
 
 
 def written_worth(name, value):

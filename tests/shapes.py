@@ -62,3 +62,29 @@ def chance_row(chance):
 
 def chance_looks(chance, rows):
     return "\n".join(chance_row(chance) for _ in range(chance.randint(1, rows)))
+
+
+# Pages whose words and boxes meet on small boards.
+LAID_TAGS = ["<b>", "<b>", "<em>", "<p>", "<p>", "<list>", "<item>", '<b class="x">', '<p class="x">', '<p id="y">',
+             "<script>say 1</script>", "</b>", "</em>", "</p>", "</p>", "</list>", "</item>", "a", "bc", " ", "\n", "  ",
+             "word", " of ", "longerword", "one two", '<b look="hide: yes">', '<p look="display: inline">',
+             '<b look="display: block">', '<p look="right: 3; down: -2">', '<b look="back: red">']
+LAID_VALUES = ["align: right", "align: center", "align: left", "back: red", "back: blue", "back: clear", "border: 1",
+               "color: green", "display: none", "display: block", "display: inline", "down: -2", "down: 3", "hide: yes",
+               "hide: no", "layer: 1", "layer: -2", "layer: 2", "margin: 1", "margin: 2", "margin: 3", "pad: 1",
+               "pad: 2", "right: -3", "right: 2", "width: 1/2", "width: 2/3", "width: 6", "width: 0", "width: 30",
+               "width: auto", "width: inherit", "margin: inherit", "border: 0"]
+LAID_COMPOUNDS = ["page", "b", "em", "p", "list", "item", "*", ".x", "#y", "p p", "p > b", "list > *", "b b", "script",
+                  ":first", "p:first"]
+
+
+def chance_laid_page(chance, pieces):
+    return "".join(chance.choices(LAID_TAGS, k=chance.randint(0, pieces)))
+
+
+def chance_laid_looks(chance, rows):
+    told = []
+    for _ in range(chance.randint(0, rows)):
+        declarations = "; ".join(chance.sample(LAID_VALUES, chance.randint(1, 4)))
+        told.append(f"{chance.choice(LAID_COMPOUNDS)} {{ {declarations} }}")
+    return "\n".join(told)

@@ -7,22 +7,50 @@ import pathlib
 import unittest
 
 FOLDER = pathlib.Path(__file__).parent.parent / "freshpage"
+# The parameters of each, those that are handed in by their names alone behind a "*", a default behind a "=".
 FUNCTIONS = {
-    "freshpage.words": {"is_word": ["text"], "written_sign": ["text"], "plain_signs": ["text"]},
-    "freshpage.reader": {"read": ["text"], "stretches": ["text"]},
-    "freshpage.writer": {"written": ["tree"], "is_whole": ["tree"]},
-    "freshpage.trees": {"nodes_of": ["tree"], "parents_of": ["tree"], "put_worth": ["tree", "node", "name", "value"],
-                        "drop_worth": ["tree", "node", "name"], "put": ["tree", "node", "at", "text"],
-                        "cut": ["tree", "node"], "set_text": ["tree", "node", "text"]},
-    "freshpage.looks": {"rules_of": ["looks"], "own_rules": ["text"]},
-    "freshpage.selectors": {"matches": ["selector", "tree", "node"], "weight": ["selector"]},
-    "freshpage.styles": {"styles": ["tree", "looks"], "style_lead": ["tree", "looks", "node", "name"]},
+    "freshpage.words": {"is_word": "text", "written_sign": "text", "plain_signs": "text"},
+    "freshpage.reader": {"read": "text", "stretches": "text"},
+    "freshpage.writer": {"written": "tree", "is_whole": "tree"},
+    "freshpage.trees": {"nodes_of": "tree", "parents_of": "tree", "put_worth": "tree node name value",
+                        "drop_worth": "tree node name", "put": "tree node at text", "cut": "tree node",
+                        "set_text": "tree node text"},
+    "freshpage.looks": {"rules_of": "looks", "own_rules": "text"},
+    "freshpage.selectors": {"matches": "selector tree node", "weight": "selector"},
+    "freshpage.styles": {"styles": "tree looks", "style_lead": "tree looks node name"},
+    "freshpage.lines": {"lines_of": "signs wide"},
+    "freshpage.rooms": {"kinds_of": "tree looks", "rooms": "tree looks * width=40", "page_high": "tree looks * width=40"},
+    "freshpage.units": {"units": "tree looks * width=40"},
+    "freshpage.boards": {"board": "tree looks * width=40", "hit": "tree looks x y * width=40",
+                         "painter": "tree looks x y * width=40"},
+    "freshpage.scripts": {"rows_of": "code", "fits": "code"},
+    "freshpage.events": {"fired": "tree looks kind node * sign='' width=40"},
+    "freshpage.sessions": {"session": "text rows * looks='' width=40"},
+}
+METHODS = {
+    "__init__": "self text * looks='' width=40", "text": "self", "looks": "self", "width": "self", "tree": "self",
+    "style": "self node", "room": "self node", "stretch": "self node", "lead": "self node name", "board": "self",
+    "hit": "self x y", "cell_lead": "self x y", "edit": "self at many text", "set_looks": "self looks",
+    "resize": "self width", "put_worth": "self node name value", "drop_worth": "self node name",
+    "put": "self node at text", "cut": "self node", "set_text": "self node text", "fire": "self kind node * sign=''",
+    "mark": "self", "undo": "self mark", "news": "self", "work": "self",
 }
 VALUES = {
     "freshpage.trees": {"MOST_NODES": 120, "MOST_DEEP": 20},
     "freshpage.styles": {"PROPERTIES": ("align", "back", "border", "color", "display", "down", "hide", "layer", "margin",
                                         "pad", "right", "width")},
+    "freshpage.rooms": {"WIDTH": 40},
 }
+
+
+def told_parameters(function):
+    told = []
+    for parameter in inspect.signature(function).parameters.values():
+        if parameter.kind == parameter.KEYWORD_ONLY and "*" not in told:
+            told.append("*")
+        plain = "" if parameter.default is parameter.empty else f"={parameter.default!r}"
+        told.append(parameter.name + plain)
+    return " ".join(told)
 
 
 class Interface(unittest.TestCase):
@@ -33,7 +61,13 @@ class Interface(unittest.TestCase):
                 function = getattr(module, name)
                 self.assertEqual(function.__module__, file)
                 self.assertTrue(inspect.isfunction(function))
-                self.assertEqual(list(inspect.signature(function).parameters), parameters)
+                self.assertEqual(told_parameters(function), parameters)
+
+    def test_the_viewer(self):
+        viewer = importlib.import_module("freshpage.viewer").Viewer
+        self.assertEqual((viewer.__module__, viewer.__bases__), ("freshpage.viewer", (object,)))
+        for name, parameters in METHODS.items():
+            self.assertEqual(told_parameters(vars(viewer)[name]), parameters)
 
     def test_values(self):
         for file, values in VALUES.items():
