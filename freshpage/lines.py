@@ -1,7 +1,7 @@
 """Fills lines with the words of a flow.
 
-A run is (node, text): signs of one node beside one another. A word is (what parts it from the one ahead: the node of
-the first sign there, its runs, how many signs).
+A run is (node, text): signs of one node beside one another. A word is (the node of the first sign that parts it from
+the word ahead, its runs).
 """
 
 
@@ -31,7 +31,8 @@ def filled(runs, wide):
     wide = max(1, wide)
     lines = []
     used = wide
-    for parted_by, word, many in words_of(runs):
+    for parted_by, word in words_of(runs):
+        many = sum([len(signs) for _, signs in word])
         if used + 1 + many <= wide:
             put_run(lines[-1], parted_by, " ")
             used += 1
@@ -67,10 +68,8 @@ def words_of(runs):
                 words.append((parted_by, word))
                 word = []
                 parted_by = node
-            elif at > 0 and parted_by is None:
-                parted_by = node
             if signs != "":
                 word.append((node, signs))
     if word:
         words.append((parted_by, word))
-    return [(parted_by, word, sum([len(signs) for _, signs in word])) for parted_by, word in words]
+    return words

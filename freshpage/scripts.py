@@ -102,23 +102,31 @@ def is_name(word):
 
 def term_parts(words):
     """The part of a term, or its two with the sign between; none where words are no term."""
-    behind = part_end(words, 0)
-    if 0 < behind == len(words):
-        return [" ".join(words)]
-    if behind == 0 or words[behind] not in SIGNS or not 0 < part_end(words, behind + 1) == len(words):
+    sign = part_end(words, 0)
+    if sign == 0:
         return []
-    return [" ".join(words[:behind]), words[behind], " ".join(words[behind + 1:])]
+    if sign == len(words):
+        return [" ".join(words)]
+    if words[sign] not in SIGNS or part_end(words, sign + 1) != len(words):
+        return []
+    return [" ".join(words[:sign]), words[sign], " ".join(words[sign + 1:])]
 
 
 def part_end(words, at):
     """The number behind the last word of the part that begins with a word, or 0 where none does."""
-    word = words[at] if at < len(words) else ""
-    if word in PLACE_WORDS:
-        return at + 2 if at + 1 < len(words) and is_who(words[at + 1]) else 0
-    if word in VALUE_WORDS:
-        return at + 3 if at + 2 < len(words) and is_who(words[at + 1]) and is_word(words[at + 2]) else 0
-    is_part = word == "sign" or word.startswith('"') or is_name(word) or number_of(word, MOST_FIGURES) is not None
-    return at + 1 if is_part else 0
+    rest = words[at:]
+    if not rest:
+        return 0
+    if rest[0] in PLACE_WORDS:
+        return at + 2 if len(rest) > 1 and is_who(rest[1]) else 0
+    if rest[0] in VALUE_WORDS:
+        return at + 3 if len(rest) > 2 and is_who(rest[1]) and is_word(rest[2]) else 0
+    return at + 1 if is_short_part(rest[0]) else 0
+
+
+def is_short_part(word):
+    """Whether a word is a part of a term by itself."""
+    return word == "sign" or word.startswith('"') or is_name(word) or number_of(word, MOST_FIGURES) is not None
 
 
 class Opened:

@@ -83,8 +83,7 @@ def compounds_of(selector, known):
 
 
 def compound_of(signs):
-    """The name, if one is asked for, and the tests, each (sign, worth's name, value); None where it is not so written.
-    """
+    """The name that a compound asks for and its tests, (sign, worth's name, value) each; None: it is not so written."""
     name = word_at(signs, 0)
     tests = []
     at = 1 if signs.startswith("*") else len(name)

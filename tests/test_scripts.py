@@ -110,6 +110,8 @@ class Rows(unittest.TestCase):
         for text in ('"', '"a', 'a"', '"a"b"', '"a""b"', '"a"b', 'a"b"', '"a" "b"', "'a'", '"a"" "'):
             self.is_no_row(f"say {text}")
             self.is_no_row(f"say {text} & x")
+        for row in ('say "a"x& "b"', 'say x& "b"', 'say "a"x', 'say"a"', 'say "a"& "b"', 'say "a" &"b"', 'say "a"x"b"', 'mark this x"a"'):
+            self.is_no_row(row)
         self.is_no_row('"say" x')
         self.is_no_row('send "a" this')
         self.assertEqual(rows_of('say "a\nb"'), [FAULT, FAULT])

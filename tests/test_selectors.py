@@ -47,6 +47,10 @@ class Compounds(Matches):
             for node in (1, 3, 8):
                 self.assertIs(matches(selector, self.TREE, node), False)
 
+    def test_where_no_node_is(self):
+        for node in (-1, 9, 10 ** 19):
+            self.assertIs(matches("*", self.TREE, node), False)
+
     def test_names_near_one_another(self):
         tree = page(tag("list"), tag("lis"), tag("lists"), tag("list-a"))
         self.finds("list", tree, 1)

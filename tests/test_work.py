@@ -72,6 +72,16 @@ class First(Work):
             part.append(99)
         self.assertEqual(viewer.work(), ([], []))
 
+    def test_it_is_not_undone(self):
+        for deed in (("undo", 0), ("edit", 0, 0, "</p>"), ("edit", 0, 0, "x")):
+            viewer = Viewer("<p>a</p>b")
+            viewer.mark()
+            viewer.board()
+            getattr(viewer, deed[0])(*deed[1:])
+            styled, blocks = viewer.work()
+            self.assertLessEqual({0, 1, 2, 3}, set(styled))
+            self.assertIn(0, blocks)
+
     def test_it_brings_nothing_about(self):
         viewer = Viewer("<p>a</p><p>b</p>")
         viewer.board()
