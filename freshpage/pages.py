@@ -3,10 +3,10 @@
 from freshpage.blocks import kinds_in, set_out_blocks
 from freshpage.covers import BARE, covers_of, room_at, rooms_and_runs
 from freshpage.kept import kept_answer, kept_with
-from freshpage.places import numbered, places_from, places_of
+from freshpage.places import behind_of, numbered, places_of
 from freshpage.sheets import sheet_of
 from freshpage.styles import lead_of, style_places
-from freshpage.trees import children_of, cut, drop_worth, nodes_of, put, put_worth, set_text
+from freshpage.trees import places_behind, with_child, with_put, with_text, with_worth, without, without_worth
 
 PAGES = None
 
@@ -122,14 +122,6 @@ class Page:
         self.watched.append(watched)
         return watched
 
-    def behind_of(self, node):
-        """The number behind those of a node and all within it."""
-        deep = self.places[node].deep
-        number = node + 1
-        while number < len(self.places) and self.places[number].deep > deep:
-            number += 1
-        return number
-
     def way_to(self, node):
         """The numbers of the tags around a tag, from the page on, and its own."""
         way = []
@@ -156,64 +148,64 @@ class Page:
 
     def signs_within(self, node):
         """All signs of all texts within a tag."""
-        return "".join([place.signs for place in self.places[node:self.behind_of(node)]])
-
-    def child_number(self, node, at):
-        """The number of a child, or behind all within the node where there are just so many."""
-        number = node + 1
-        for _ in range(at):
-            number = self.behind_of(number)
-        return number
+        return "".join([place.signs for place in self.places[node:behind_of(self.places, node)]])
 
     def put_worth(self, node, name, value):
         """A worth put at a tag."""
-        self.renew(put_worth(self.tree, node, name, value), node, node + 1, node + 1)
+        self.renew(node, with_worth(self.places, node, name, value), node + 1, node + 1)
 
     def drop_worth(self, node, name):
         """A worth dropped at a tag."""
-        self.renew(drop_worth(self.tree, node, name), node, node + 1, node + 1)
+        self.renew(node, without_worth(self.places, node, name), node + 1, node + 1)
 
     def put(self, node, at, text):
         """A text, read as a page, put in at a tag ahead of its child of a number."""
-        tree = put(self.tree, node, at, text)
-        number = self.child_number(node, at)
-        self.renew(tree, node, number, number)
+        tag = with_put(self.places, node, at, text)
+        number = node + 1
+        for _ in range(at):
+            number = behind_of(self.places, number)
+        self.renew(node, tag, number, number)
 
     def put_last(self, node, text):
         """A text, read as a page, put in at a tag behind all its children."""
-        self.put(node, len(children_of(nodes_of(self.tree)[node])), text)
+        self.put(node, len(self.places[node].node[3]), text)
 
     def cut(self, node):
         """A node cut."""
-        tree = cut(self.tree, node)
-        self.renew(tree, self.places[node].parent.number, node, self.behind_of(node))
+        tag = without(self.places, node)
+        self.renew(self.places[node].parent.number, tag, node, behind_of(self.places, node))
 
     def set_text(self, node, text):
         """A text put in the place of all children of a tag."""
-        tree = set_text(self.tree, node, text)
-        self.renew(tree, node, node + 1, self.behind_of(node))
+        tag = with_text(self.places, node, text)
+        self.renew(node, tag, node + 1, behind_of(self.places, node))
 
-    def renew(self, tree, node, gone, behind):
-        """Takes the tree of a deed, another one within a tag alone, where the nodes from a number to one are gone."""
-        if tree == self.tree:
+    def renew(self, node, tag, gone, behind):
+        """Another tag in the place of one, where by this the nodes from a number to one are gone."""
+        within = places_behind(self.places, node, tag)
+        old = self.places[node:behind_of(self.places, node)]
+        if tag == old[0].node:
             return
-        self.tree = tree
-        old = self.places[node:self.behind_of(node)]
-        new = places_from(old[0].parent, nodes_of(tree)[node], old[0].first)
-        self.places[node:node + len(old)] = new
+        self.places[node:node + len(old)] = within
         numbered(self.places)
-        move = Move(gone, behind, len(new) - len(old))
+        move = Move(gone, behind, len(within) - len(old))
         for at, place in enumerate(old):
             number = move.number_of(node + at)
             if number is not None:
                 keep_work(place, self.places[number])
         for watched in self.watched:
             watched.number = move.number_of(watched.number)
-        around = old[0].parent
-        while around is not None:
-            around.block = None
-            around = around.parent
+        self.renew_around(within[0])
         self.forget()
+
+    def renew_around(self, place):
+        """Puts a tag that is another one into those around it, whose blocks are to be set out anew."""
+        while place.parent is not None:
+            around = place.parent
+            around.node = with_child(around.node, place.at, place.node)
+            around.block = None
+            place = around
+        self.tree = place.node
 
     def set_looks(self, looks):
         """Other looks: all styles and blocks are to be worked out."""

@@ -8,9 +8,12 @@ PLACES = None
 class Place:
     """Where a node stands: of a text its signs, of a tag its name and worths, and whether no tag beside is ahead."""
 
-    def __init__(self, parent, node, first):
+    def __init__(self, parent, node, at, first):
         self.number = 0
         self.parent = parent
+        self.node = node
+        # The how manieth child of its parent it is.
+        self.at = at
         self.deep = 1 if parent is None else parent.deep + 1
         self.name = None
         self.signs = ""
@@ -18,6 +21,7 @@ class Place:
         self.first = first
         self.has_tag = False
         # What is worked out of it is set by those who do so.
+        self.size = None
         self.own = None
         self.met = 0
         self.met_around = 0
@@ -34,28 +38,40 @@ class Place:
 
 def places_of(tree):
     """The places of all nodes, by their numbers."""
-    return numbered(places_from(None, tree, True))
+    return numbered(places_from(None, tree, 0, True))
 
 
-def places_from(parent, node, first):
+def places_from(parent, node, at, first):
     """The places of a node below that of a parent, and of all within it, in their order, still without numbers."""
-    places = [Place(parent, node, first)]
-    coming = [(places[0], child) for child in children_behind_first(node)]
+    places = [Place(parent, node, at, first)]
+    coming = coming_from(places[0])
     # Not by a function that calls itself: a tree may be deep.
     while coming:
-        parent, node = coming.pop()
+        parent, at, node = coming.pop()
         is_tag = node[0] == "tag"
-        place = Place(parent, node, is_tag and not parent.has_tag)
+        place = Place(parent, node, at, is_tag and not parent.has_tag)
         places.append(place)
         if is_tag:
             parent.has_tag = True
-            coming.extend([(place, child) for child in node[3][::-1]])
+            coming.extend(coming_from(place))
     return places
 
 
-def children_behind_first(node):
-    """The children of a node, the last one first."""
-    return node[3][::-1] if node[0] == "tag" else ()
+def coming_from(place):
+    """The children of a node, the last one first: each (the node's place, the how manieth it is, the child)."""
+    if place.name is None:
+        return []
+    children = [(place, at, child) for at, child in enumerate(place.node[3])]
+    return children[::-1]
+
+
+def behind_of(places, number):
+    """The number behind those of a node and all within it."""
+    deep = places[number].deep
+    number += 1
+    while number < len(places) and places[number].deep > deep:
+        number += 1
+    return number
 
 
 def numbered(places):

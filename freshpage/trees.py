@@ -1,9 +1,10 @@
 """The nodes of a tree by their numbers, and deeds: each tells a new tree, whole, or is refused."""
 
 from freshpage.errors import NoNode, NotFormed, NotTag, TooLarge
+from freshpage.places import behind_of, places_from, places_of
 from freshpage.reader import read
 from freshpage.words import SCRIPT_END, is_word
-from freshpage.writer import written
+from freshpage.writer import signs_beside
 
 MOST_NODES = 120
 MOST_DEEP = 20
@@ -38,87 +39,103 @@ def parents_of(tree):
     return parents
 
 
-def children_of(node):
-    """The children of a node: none of a text."""
-    return node[3] if node[0] == "tag" else ()
-
-
 def put_worth(tree, node, name, value):
     """The tree with a worth put at a tag: in its place, or behind the others."""
-    nodes = nodes_of(tree)
-    tag = tag_of_worth(nodes, node, name)
-    worths = dict(tag[2])
-    worths[name] = value
-    return bounded(replaced(nodes, node, [with_worths(tag, tuple(worths.items()))]))
+    places = places_of(tree)
+    return tree_with(places, node, with_worth(places, node, name, value))
 
 
 def drop_worth(tree, node, name):
     """The tree with a worth dropped at a tag, if it is there."""
-    nodes = nodes_of(tree)
-    tag = tag_of_worth(nodes, node, name)
-    worths = tuple([worth for worth in tag[2] if worth[0] != name])
-    return bounded(replaced(nodes, node, [with_worths(tag, worths)]))
+    places = places_of(tree)
+    return tree_with(places, node, without_worth(places, node, name))
 
 
 def put(tree, node, at, text):
     """The tree with what a text is read to put in at a tag, ahead of its child of a number or behind all."""
-    nodes = nodes_of(tree)
-    tag = tag_at(nodes, node)
+    places = places_of(tree)
+    return tree_with(places, node, with_put(places, node, at, text))
+
+
+def cut(tree, node):
+    """The tree without a node and what is within it."""
+    places = places_of(tree)
+    tag = without(places, node)
+    return tree_with(places, places[node].parent.number, tag)
+
+
+def set_text(tree, node, text):
+    """The tree with a text in the place of all children of a tag."""
+    places = places_of(tree)
+    return tree_with(places, node, with_text(places, node, text))
+
+
+def with_worth(places, node, name, value):
+    """The tag of a number with a worth put."""
+    tag = tag_of_worth(places, node, name)
+    worths = dict(tag[2])
+    worths[name] = value
+    return ("tag", tag[1], tuple(worths.items()), tag[3])
+
+
+def without_worth(places, node, name):
+    """The tag of a number with a worth dropped."""
+    tag = tag_of_worth(places, node, name)
+    worths = tuple([worth for worth in tag[2] if worth[0] != name])
+    return ("tag", tag[1], worths, tag[3])
+
+
+def with_put(places, node, at, text):
+    """The tag of a number with what a text is read to put in ahead of its child of a number or behind all."""
+    tag = tag_at(places, node)
     if tag[1] == "script":
         raise NotTag("nothing is put in at a script")
     children = tag[3]
     if at < 0 or at > len(children):
         raise NoNode("no child has this number")
-    children = children[:at] + read(text)[3] + children[at:]
-    return bounded(replaced(nodes, node, [with_children(tag, children)]))
+    return with_children(tag, children[:at] + read(text)[3] + children[at:])
 
 
-def cut(tree, node):
-    """The tree without a node and what is within it."""
-    nodes = nodes_of(tree)
-    node_at(nodes, node)
+def without(places, node):
+    """The parent of the node of a number with this one cut."""
+    place = place_at(places, node)
     if node == 0:
         raise NotTag("the page is not cut")
-    return bounded(replaced(nodes, node, []))
+    tag = place.parent.node
+    return with_children(tag, tag[3][:place.at] + tag[3][place.at + 1:])
 
 
-def set_text(tree, node, text):
-    """The tree with a text in the place of all children of a tag."""
-    nodes = nodes_of(tree)
-    tag = tag_at(nodes, node)
+def with_text(places, node, text):
+    """The tag of a number with a text in the place of all its children."""
+    tag = tag_at(places, node)
     if tag[1] == "script" and SCRIPT_END in text:
         raise NotFormed("the text would end the script")
-    return bounded(replaced(nodes, node, [with_children(tag, (("text", text),))]))
+    return with_children(tag, (("text", text),))
 
 
-def node_at(nodes, number):
-    """The node of a number."""
-    if number < 0 or number >= len(nodes):
+def place_at(places, number):
+    """The place of the node of a number."""
+    if number < 0 or number >= len(places):
         raise NoNode("no node has this number")
-    return nodes[number]
+    return places[number]
 
 
-def tag_at(nodes, number):
+def tag_at(places, number):
     """The node of a number, where it is a tag."""
-    node = node_at(nodes, number)
-    if node[0] != "tag":
+    place = place_at(places, number)
+    if place.name is None:
         raise NotTag("a text is no tag")
-    return node
+    return place.node
 
 
-def tag_of_worth(nodes, number, name):
+def tag_of_worth(places, number, name):
     """The tag of a number, where a worth of that name may be put or dropped."""
-    tag = tag_at(nodes, number)
+    tag = tag_at(places, number)
     if number == 0:
         raise NotTag("the page has no worths")
     if not is_word(name):
         raise NotFormed("the worth's name is no word")
     return tag
-
-
-def with_worths(tag, worths):
-    """The tag with other worths."""
-    return ("tag", tag[1], worths, tag[3])
 
 
 def with_children(tag, children):
@@ -132,34 +149,42 @@ def with_children(tag, children):
     return ("tag", tag[1], tag[2], tuple(kept))
 
 
-def replaced(nodes, number, others):
-    """The tree of these nodes with others (of the page: one) where the one of a number stood."""
-    parents = parents_of(nodes[0])
-    while parents[number] is not None:
-        parent = parents[number]
-        # As many children stand ahead of it as nodes with smaller numbers have its parent.
-        at = parents[:number].count(parent)
-        children = nodes[parent][3]
-        children = children[:at] + tuple(others) + children[at + 1:]
-        others = [with_children(nodes[parent], children)]
-        number = parent
-    return others[0]
+def with_child(tag, at, child):
+    """The tag with another tag in the place of a child that is one."""
+    return ("tag", tag[1], tag[2], tag[3][:at] + (child,) + tag[3][at + 1:])
 
 
-def bounded(tree):
-    """The tree, where it is not too large."""
-    check_sizes(tree)
-    if len(written(tree)) > MOST_SIGNS:
+def tree_with(places, node, tag):
+    """The tree with another tag in the place of the one of a number, where it is not too large."""
+    places_behind(places, node, tag)
+    place = places[node]
+    while place.parent is not None:
+        tag = with_child(place.parent.node, place.at, tag)
+        place = place.parent
+    return tag
+
+
+def places_behind(places, node, tag):
+    """The places of another tag in the place of one, and of all within it, where the page is not too large by it."""
+    old = places[node]
+    within = places_from(old.parent, tag, old.at, old.first)
+    behind = places[:node] + within + places[behind_of(places, node):]
+    check_sizes(behind)
+    if sum([size_of(place) for place in behind]) > MOST_SIGNS:
         raise TooLarge(MOST_SIGNS)
-    return tree
+    return within
 
 
-def check_sizes(tree):
-    """Refuses a tree of too many nodes, or one that is too deep."""
-    deeps = []
-    for parent in parents_of(tree):
-        deeps.append(1 if parent is None else deeps[parent] + 1)
-    if len(deeps) > MOST_NODES:
+def check_sizes(places):
+    """Refuses too many nodes, and such as stand too deep."""
+    if len(places) > MOST_NODES:
         raise TooLarge(MOST_NODES)
-    if max(deeps) > MOST_DEEP:
+    if max([place.deep for place in places]) > MOST_DEEP:
         raise TooLarge(MOST_DEEP)
+
+
+def size_of(place):
+    """How many signs a node is written with, those of its children apart."""
+    if place.size is None:
+        place.size = signs_beside(place.node, None if place.parent is None else place.parent.name)
+    return place.size

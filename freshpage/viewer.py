@@ -3,6 +3,7 @@
 from freshpage.errors import NoMark, NoNode, NoPlace, NoProperty, NoWidth, TooLarge
 from freshpage.events import fire_at
 from freshpage.pages import Page, page_behind
+from freshpage.places import places_of
 from freshpage.reader import read, stretches
 from freshpage.rooms import WIDTH, kinds_of
 from freshpage.styles import PROPERTIES
@@ -177,7 +178,7 @@ def bounded_tree(text):
     if len(text) > MOST_SIGNS:
         raise TooLarge(MOST_SIGNS)
     tree = read(text)
-    check_sizes(tree)
+    check_sizes(places_of(tree))
     return tree
 
 

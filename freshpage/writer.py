@@ -15,12 +15,30 @@ def written(tree):
         elif part[0] == "text":
             pieces.append(written_sign(part[1]))
         else:
-            _, name, worths, children = part
-            ahead = "".join([written_worth(key, value) for key, value in worths])
-            pieces.append(f"<{name}{ahead}>")
-            coming.append(f"</{name}>")
-            coming.extend([signs for _, signs in children] if name == "script" else children[::-1])
+            pieces.append(begin_of(part))
+            coming.append(end_of(part))
+            coming.extend([signs for _, signs in part[3]] if part[1] == "script" else part[3][::-1])
     return "".join(pieces)
+
+
+def signs_beside(node, around):
+    """How many signs a node is written with, those of its children apart, in a tag of a name, None around the page."""
+    if around is None:
+        return 0
+    if node[0] == "text":
+        return len(node[1]) if around == "script" else len(written_sign(node[1]))
+    return len(begin_of(node)) + len(end_of(node))
+
+
+def begin_of(tag):
+    """The begin of a tag, with its worths."""
+    worths = "".join([written_worth(key, value) for key, value in tag[2]])
+    return f"<{tag[1]}{worths}>"
+
+
+def end_of(tag):
+    """The end of a tag."""
+    return f"</{tag[1]}>"
 
 
 def written_worth(name, value):
