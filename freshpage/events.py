@@ -3,7 +3,7 @@
 from freshpage.errors import NoNode, NotFormed, NotTag, TooLarge
 from freshpage.pages import Page
 from freshpage.rooms import WIDTH
-from freshpage.runs import Run
+from freshpage.runs import Run, Script
 from freshpage.words import is_word
 
 MOST_EVENTS = 8
@@ -33,6 +33,8 @@ class Happening:
         self.page = page
         self.outcome = []
         self.coming = []
+        # By their texts the scripts that were read, as handlers are mostly run more than once.
+        self.scripts = {}
         self.events = 0
         self.rows = 0
 
@@ -80,7 +82,10 @@ class Happening:
         script = None if name is None else self.page.first_tag("name", name, "script")
         if script is not None:
             self.outcome.append(("run", name, side, tag.number))
-            fault = Run(self, event, tag, self.page.signs_within(script)).go()
+            code = self.page.signs_within(script)
+            if code not in self.scripts:
+                self.scripts[code] = Script(code)
+            fault = Run(self, event, tag, self.scripts[code]).go()
             if fault is not None:
                 self.outcome.append(("fault", name, fault))
 

@@ -15,25 +15,33 @@ class Fault(Exception):
     """A row asks what is not there, or what can't be done."""
 
 
+class Script:
+    """A script's rows, the one that is at fault by itself, and where its rows lead."""
+
+    def __init__(self, code):
+        self.rows = rows_of(code)
+        self.fault = fault_of(self.rows)
+        self.jumps = jumps_of(self.rows) if self.fault is None else {}
+
+
 class Run:
     """A run of a script for an event: `this` and the event's target, what was let, and the turns of its loops."""
 
-    def __init__(self, happening, event, this, code):
+    def __init__(self, happening, event, this, script):
         self.happening = happening
         self.page = happening.page
         self.event = event
         self.this = this
-        self.rows = rows_of(code)
-        self.jumps = {}
+        self.fault = script.fault
+        self.rows = script.rows
+        self.jumps = script.jumps
         self.names = {}
         self.turns = {}
 
     def go(self):
         """Does the rows; the number of the one at which the run ends at a fault, or None."""
-        fault = fault_of(self.rows)
-        if fault is not None:
-            return fault
-        self.jumps = jumps_of(self.rows)
+        if self.fault is not None:
+            return self.fault
         at = 0
         while at < len(self.rows):
             row = self.rows[at]

@@ -279,5 +279,32 @@ class Painters(Asked):
         self.assertIsNone(painter(tree, "p { back: red }", 10, 0, width=10))
 
 
+class AskedAgain(unittest.TestCase):
+    def test_behind_other_pages(self):
+        tree, looks = read("<p>a b</p>c"), "p { border: 1; back: red; width: 3 }"
+        before = repr(tree)
+
+        def all_told():
+            cells = [(hit(tree, looks, x, y, width=6), painter(tree, looks, x, y, width=6)) for y in range(4) for x in range(6)]
+            return board(tree, looks, width=6), units(tree, looks, width=6), cells
+
+        ahead = all_told()
+        for k in range(1, 15):
+            board(read(f"<p>{'x ' * k}</p>"), looks, width=6)
+            units(tree, looks, width=6 + k)
+            hit(tree, f"p {{ pad: {k} }}", 0, 0, width=6)
+            painter(read("<p>b</p>"), looks, 0, 0, width=6)
+            if k % 3 == 0:
+                self.assertEqual(all_told(), ahead)
+        self.assertEqual(all_told(), ahead)
+        self.assertEqual(repr(tree), before)
+
+    def test_trees_that_are_equal(self):
+        for _ in range(3):
+            self.assertEqual(hit(read("<p>a</p>"), "", 0, 0), 1)
+            self.assertEqual(painter(read("<p>b</p>"), "", 0, 0), 2)
+            self.assertEqual(board(read("<p>b</p>"), "", width=1), [[("b", "black", "clear")]])
+
+
 if __name__ == "__main__":
     unittest.main()
