@@ -53,14 +53,15 @@ class Cover:
 
     def paint_box(self, row, y):
         """Paints what the box has in a row: its back, then its border, whose signs keep the backs."""
-        left, _, wide, _ = self.box
+        left, top, wide, high = self.box
         first = max(0, left)
         behind = min(len(row), left + wide)
         if self.back != "clear" and first < behind:
             row[first:behind] = [(" ", "black", self.back)] * (behind - first)
         if self.has_border:
-            for x in range(first, behind):
-                if self.is_edge(x, y):
+            edges = list(range(first, behind)) if y in (top, top + high - 1) else [left, left + wide - 1]
+            for x in edges:
+                if first <= x < behind:
                     row[x] = ("#", self.color, row[x][2])
 
     def told(self):
