@@ -87,6 +87,6 @@ def kept_places(tree):
     rows = PLACES or ()
     places = kept_answer(rows, tree)
     if places is None:
-        places = places_of(tree)
+        places = tuple(places_of(tree))
         PLACES = kept_with(rows, tree, places)
     return places

@@ -40,7 +40,7 @@ def kept_for_styles(tree, looks):
     rows = STYLED or ()
     places = kept_answer(rows, (tree, looks))
     if places is None:
-        places = places_of(tree)
+        places = tuple(places_of(tree))
         STYLED = kept_with(rows, (tree, looks), places)
     return places
 
